@@ -1,0 +1,1 @@
+"""Endonce: rings of requests."""
