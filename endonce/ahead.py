@@ -62,3 +62,14 @@ class Ahead:
             for completion in told:
                 if not completion[3]:
                     self.ended[key_of(completion)] = True
+
+
+def twin_ahead(ahead):
+    """The same beginning once more, sharing nothing with this one that changes."""
+    twin = Ahead()
+    twin.tags = dict(ahead.tags)
+    twin.requests = dict(ahead.requests)
+    twin.ended = {key: True for key in ahead.ended}
+    twin.latest = ahead.latest
+    twin.stopped = ahead.stopped
+    return twin

@@ -39,7 +39,7 @@ def are_taken(thing):
 def is_kind(setup, part, kind):
     """Whether part is of the kind with this word."""
     match kind:
-        case "truth":
+        case "truth" | "good":
             return is_truth(part)
         case "from 0":
             return is_number(part, 0)

@@ -5,7 +5,7 @@ from endonce.kinds import ascends, is_name, is_row
 
 DEEDS = {
     "nop": (),
-    "work": ("truth",),
+    "work": ("good",),
     "read": ("where", "from 1"),
     "reads": ("where", "from 1"),
     "write": ("where", "text"),

@@ -39,6 +39,7 @@ PARTS = {
     "cancelled": ("name", "truth"),
     "stopped": ("truth",),
     "broken": ("name",),
+    "freed": ("from 0",),
 }
 
 

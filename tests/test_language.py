@@ -26,6 +26,21 @@ FUNCTIONS = {
         "is_setup": ["thing"], "is_lot": ["setup", "thing"], "is_script": ["setup", "thing"], "chains": ["lot"],
         "tags": ["script"], "is_history": ["setup", "thing"], "script_of": ["history"], "is_closed": ["history"],
     },
+    "texts": {
+        "setup_text": ["setup"], "script_text": ["script"], "history_text": ["history"], "setup_in": ["text"],
+        "script_in": ["setup", "text"], "history_in": ["setup", "text"],
+    },
+    "sums": {"sums": ["setup", "history"]},
+    "nodes": {"nodes": ["setup", "history"]},
+}
+
+# Of each class that has landed, its file, its own parameters, and its methods with theirs.
+CLASSES = {
+    "Ring": ("ring", ["setup"], {
+        "put": ["lot"], "reap": ["most"], "clock": ["time"], "give": ["pipe", "text"], "take": ["pipe", "many"], "lend": ["many"],
+        "quiet": [], "stop": [], "do": ["event"], "possible": [], "step": ["index"], "history": [], "unended": [], "twin": [],
+        "letters": ["pipe"], "turn": ["slot"], "holders": ["slot", "number"], "buffers": [], "outstanding": [],
+    }),
 }
 
 
@@ -97,6 +112,45 @@ class LanguageTest(unittest.TestCase):
                 self.assertIsInstance(node, ast.Constant)
                 self.assertNotIsInstance(node.value, (float, complex))
                 self.assertFalse(isinstance(node.value, str) and "%" in node.value)
+
+    def test_no_name_of_an_import_or_a_class_means_something_else(self):
+        for path in files():
+            tree = ast.parse(path.read_text())
+            taken = {alias.name for node in ast.walk(tree) if isinstance(node, ast.ImportFrom) for alias in node.names}
+            taken |= {node.name for node in tree.body if isinstance(node, (ast.ClassDef, ast.FunctionDef))}
+            own = [node.id for node in ast.walk(tree) if isinstance(node, ast.Name) and isinstance(node.ctx, ast.Store)]
+            own += [node.arg for node in ast.walk(tree) if isinstance(node, ast.arg)]
+            with self.subTest(file=path.name):
+                self.assertEqual(sorted(taken.intersection(own)), [])
+
+    def test_no_method_is_also_an_attribute(self):
+        methods = {node.name for _, made in nodes(ast.ClassDef) for node in made.body if isinstance(node, ast.FunctionDef)}
+        stored = {node.attr for _, node in nodes(ast.Attribute) if isinstance(node.ctx, ast.Store)}
+        self.assertEqual(sorted(methods & stored), [])
+
+    def test_no_generator_expressions_where_objects_compare(self):
+        self.assertEqual([name for name, _ in nodes(ast.GeneratorExp)], [])
+
+    def test_no_module_imports_one_that_imports_it(self):
+        ahead = {path.stem: set() for path in files()}
+        for name, node in nodes(ast.ImportFrom):
+            if node.module.startswith("endonce."):
+                ahead[name[:-3]].add(node.module[len("endonce."):])
+        while ahead:
+            free = [name for name, needs in ahead.items() if not needs & set(ahead)]
+            self.assertTrue(free, ahead)
+            for name in free:
+                del ahead[name]
+
+    def test_methods_stand_in_the_class_itself(self):
+        for name, (file, own, methods) in CLASSES.items():
+            made = getattr(import_module("endonce." + file), name)
+            self.assertEqual(made.__module__, "endonce." + file)
+            self.assertEqual(list(inspect.signature(made).parameters), own)
+            for method, parameters in methods.items():
+                with self.subTest(name=name, method=method):
+                    self.assertIn(method, vars(made))
+                    self.assertEqual(list(inspect.signature(vars(made)[method]).parameters), ["self"] + parameters)
 
     def test_functions_stand_where_the_interface_lists_them(self):
         for name, functions in FUNCTIONS.items():

@@ -59,3 +59,51 @@ def expect(test, wanted, function, *given):
     """Check that the function answers so."""
     with test.subTest(given=given[-1]):
         test.assertIs(ask(test, function, *given), wanted)
+
+
+EVENT_WORDS = ("put", "reap", "clock", "give", "take", "lend", "quiet", "stop")
+
+
+def do(ring, *moves):
+    """Do these user events and STEPs, the latter by their names; return what the last one told or returned."""
+    told = None
+    for move in moves:
+        if move[0] in EVENT_WORDS:
+            told = ring.do(move)
+        else:
+            told = ring.step(ring.possible().index(move))
+            assert told == move
+    return told
+
+
+def settle(ring):
+    """Do the first possible step until none is possible; return the steps."""
+    steps = []
+    while ring.possible():
+        steps.append(ring.step(0))
+    return steps
+
+
+def posts(ring):
+    """Do all posts that are possible, first ones first, and no other step."""
+    while [step for step in ring.possible() if step[0] in ("post", "note")]:
+        steps = ring.possible()
+        ring.step(min(at for at, step in enumerate(steps) if step[0] in ("post", "note")))
+
+
+def told_by(ring):
+    """Post and reap all that was told; the completions, without kept."""
+    posts(ring)
+    told = []
+    while ring.outstanding():
+        told += [completion[:4] for completion in ring.reap(9)]
+    return told
+
+
+def close(ring):
+    """Do what is possible, a quiet, and reaps until one tells (); the HISTORY then."""
+    settle(ring)
+    ring.quiet()
+    while ring.reap(9):
+        pass
+    return ring.history()

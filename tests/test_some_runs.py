@@ -1,0 +1,100 @@
+"""Histories of many runs: they fit together, their nodes are what was done as one, their texts tell all of them."""
+
+import unittest
+from collections import Counter
+
+from endonce.data import chains, is_closed, is_history, is_script, is_setup, script_of
+from endonce.nodes import nodes
+from endonce.sums import sums
+from endonce.texts import history_in, history_text, script_in, script_text, setup_in, setup_text
+from some_runs import Maker
+from things import as_lists
+
+MANY = 1500
+
+
+def made(seed):
+    maker = Maker(seed)
+    return maker, maker.script()
+
+
+class Watch:
+    """What is done as one, from what a Ring tells before and after each step or event."""
+
+    def __init__(self):
+        self.nodes = []
+        self.posts = 0
+        self.before = None
+
+    def __call__(self, ring, step):
+        self.after(ring)
+        if step[0] in ("post", "note"):
+            step = ("post", self.posts)
+            self.posts += 1
+        self.before = (step, {tag: begun for tag, begun, _ in ring.unended()})
+
+    def after(self, ring):
+        if self.before is None:
+            return
+        step, before = self.before
+        now = {tag: begun for tag, begun, _ in ring.unended()}
+        node = {step} if step[0] != "end" else set()
+        node |= {("begin", tag) for tag, begun in now.items() if begun and not before.get(tag, False)}
+        node |= {("end", tag) for tag in before if tag not in now}
+        if step[0] == "begin":
+            # A linktimeout that begins and ends in one step is seen by its request alone.
+            lots = [event[1] for event, _ in ring.history() if event[0] == "put"]
+            timers = dict(pair for lot in lots for chain in chains(lot) for pair in chain)
+            node |= {("begin", tag) for tag in [timers[step[1]]] if tag in before}
+        self.nodes.append(tuple(sorted(node)))
+
+
+class SomeRunsTest(unittest.TestCase):
+    def test_the_histories_of_runs(self):
+        words = Counter()
+        for seed in range(MANY):
+            maker, script = made(seed)
+            setup = maker.setup
+            watch = Watch()
+            ring = maker.run(script, watch)
+            watch.after(ring)
+            history = ring.history()
+            with self.subTest(seed=seed):
+                self.assertTrue(is_setup(setup) and is_script(setup, script) and is_history(setup, history) and is_closed(history))
+                self.assertEqual(script_of(history)[:len(script)], script)
+                self.assertEqual(repr(history_in(setup, history_text(history))), repr(history))
+                self.assertEqual(repr(script_in(setup, script_text(script))), repr(script))
+                self.assertEqual(setup_in(setup_text(setup)), setup)
+                self.assertIsNone(sums(setup, history))
+                self.assertIsNone(sums(as_lists(setup), as_lists(history)))
+                self.assertEqual(nodes(setup, history), sorted(watch.nodes))
+                ends = [row[0] for event, told in history if event[0] == "reap" for row in told if not row[3] and isinstance(row[0], str)]
+                self.assertEqual(len(ends), len(set(ends)))
+            words.update(row[1][0] for event, told in history if event[0] == "reap" for row in told)
+        # Each result of the document occurs in these runs, so all of them were looked at.
+        self.assertEqual(len(words), 22, words)
+
+    def test_the_same_choices_give_the_same_ring(self):
+        for seed in range(0, MANY, 10):
+            rings = [maker.run(script) for maker, script in (made(seed), made(seed))]
+            self.assertEqual(rings[0], rings[1])
+            self.assertEqual(rings[0].twin(), rings[1])
+
+    def test_a_twin_at_each_moment_goes_on_in_the_same_way(self):
+        for seed in range(0, MANY, 40):
+            maker, script = made(seed)
+            done = []
+            twins = []
+            ring = maker.run(script, lambda ring, step: (twins.append((ring.twin(), len(done))), done.append(step)))
+            for twin, at in twins:
+                for step in done[at:]:
+                    if step[0] == "user":
+                        twin.do(ring.history()[step[1]][0])
+                    else:
+                        twin.step(twin.possible().index(step))
+                self.assertEqual(twin, ring)
+                self.assertEqual(repr(twin.history()), repr(ring.history()))
+
+
+if __name__ == "__main__":
+    unittest.main()
