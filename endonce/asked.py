@@ -7,7 +7,7 @@ AT_ONCE = ("nop", "shut", "update", "cancel", "cancelall")
 
 
 class Asked:
-    """A request that was put, and how it is bound to others of its lot; nothing of it ever changes."""
+    """A request that was put, and how it is bound to others of its lot; once put it never changes."""
 
     def __init__(self, number, at, request):
         self.number = number
@@ -21,6 +21,16 @@ class Asked:
         self.timer = None
         # Of a linktimeout the tag of the request to which it belongs, otherwise None.
         self.owner = None
+
+    def join_chain(self, chain, rank, timer):
+        """Note its chain, its place there, and its linktimeout."""
+        self.chain = chain
+        self.rank = rank
+        self.timer = timer
+
+    def belong_to(self, owner):
+        """Note the request to which this linktimeout belongs."""
+        self.owner = owner
 
     def members_ahead(self):
         """The tags of the members of its chain ahead of it."""
@@ -38,11 +48,9 @@ def asked_in(lot, at, first):
     for chain in chains(lot):
         members = tuple([tag for tag, _ in chain])
         for rank, (tag, timer) in enumerate(chain):
-            asked[tag].chain = members
-            asked[tag].rank = rank
-            asked[tag].timer = timer
+            asked[tag].join_chain(members, rank, timer)
             if timer is not None:
-                asked[timer].owner = tag
+                asked[timer].belong_to(tag)
     return asked
 
 

@@ -383,6 +383,12 @@ class ByRowTest(SumsTest):
             ("r", "put r read p 1 hard | k cancelall\nreap 9 -> r cancelled k yes ; k all r yes /"),
             ("t", "put w work good link | t linktimeout 9\nput k cancelall drain\nreap 9 -> w done ; t cancelled k yes ; k all t yes / w"))
 
+    def test_whom_it_would_end_if_it_tells_so(self):
+        self.fails("by",
+            ("r", "put r read p 1\nput s cancel r drain\ngive p a -> 0\nreap 9 -> r text p 0 a ; s took yes"),
+            ("c", "put r read p 1\nput c cancel r drain\ngive p a -> 0\nreap 9 -> r text p 0 a ; c took yes"),
+            ("r", "put r read p 1 drain\nput s cancelall\ngive p a -> 0\nreap 9 -> r text p 0 a ; s all r no /"))
+
     def test_stopped(self):
         self.fits(
             "put r read p 1\nstop\nreap 9 -> r stopped yes",
