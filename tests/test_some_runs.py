@@ -49,7 +49,44 @@ class Watch:
         self.nodes.append(tuple(sorted(node)))
 
 
+class Queries:
+    """What the queries of a Ring must tell, from its history, its unended requests and the steps that were done."""
+
+    def __init__(self, test, setup):
+        self.test = test
+        self.setup = setup
+        self.steps = []
+
+    def __call__(self, ring, step):
+        self.check(ring)
+        self.steps.append(step)
+
+    def check(self, ring):
+        events = [event for event, _ in ring.history()]
+        requests = {request[0]: request for event in events if event[0] == "put" for request in event[1]}
+        posts = [step for step in self.steps if step[0] in ("post", "note")]
+        reaped = [row for event, told in ring.history() if event[0] == "reap" for row in told]
+        self.test.assertEqual(ring.outstanding(), len(posts) - len(reaped))
+        self.test.assertEqual(ring.buffers()[1], sum(event[1] for event in events if event[0] == "lend"))
+        for slot in range(len(self.setup[3])):
+            updates = [step[1] for step in self.steps if step[0] == "begin" and requests[step[1]][1][:2] == ("update", slot)]
+            turns = [self.setup[3][slot]] + [requests[tag][1][2] for tag in updates]
+            self.test.assertEqual(ring.turn(slot), (len(turns) - 1, turns[-1]))
+            for number in range(len(turns) + 1):
+                holders = [tag for tag, _, turn in ring.unended() if turn == number and requests[tag][1][1] == ("slot", slot)]
+                self.test.assertEqual(ring.holders(slot, number), holders)
+        for pipe in self.setup[2]:
+            taken = "".join(told[1] for event, told in ring.history() if event[:2] == ("take", pipe))
+            self.test.assertGreaterEqual(ring.letters(pipe)[0], len(taken))
+
+
 class SomeRunsTest(unittest.TestCase):
+    def test_the_queries_at_each_moment(self):
+        for seed in range(0, MANY, 5):
+            maker, script = made(seed)
+            watch = Queries(self, maker.setup)
+            watch.check(maker.run(script, watch))
+
     def test_the_histories_of_runs(self):
         words = Counter()
         for seed in range(MANY):
