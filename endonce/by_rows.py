@@ -7,7 +7,6 @@ def bad_by(facts):
     for one in facts.asked.values():
         if not fits(facts, one):
             bad.append(one.tag)
-        bad += [tag for tag in claimed_by(facts, one) if tag in facts.asked and not may_take(one, facts.asked[tag])]
     for event, told in facts.pairs:
         if event[0] == "give" and told[0] == "shut" and told[1] not in facts.lockers_of(event[1]):
             bad.append(told[1])
@@ -68,20 +67,12 @@ def is_ended_well(facts, one):
     result = facts.ends.get(by, ("",))
     if by == one.timer:
         return result == ("time",)
+    # One that could not end it fits by its own result all the same: whom it would end is who does not fit.
+    if not may_take(other, one):
+        return False
     if other.deed == ("cancel", one.tag):
         return result == ("took", begun)
     return result[0] == "all" and (one.tag, begun) in result[1]
-
-
-def claimed_by(facts, one):
-    """The tags of those that a cancel or cancelall tells to have ended."""
-    match facts.word_of_end(one.tag):
-        case "took":
-            return [one.deed[1]]
-        case "all":
-            return [tag for tag, _ in facts.ends[one.tag][1]]
-        case _:
-            return []
 
 
 def may_take(other, one):

@@ -383,11 +383,20 @@ class ByRowTest(SumsTest):
             ("r", "put r read p 1 hard | k cancelall\nreap 9 -> r cancelled k yes ; k all r yes /"),
             ("t", "put w work good link | t linktimeout 9\nput k cancelall drain\nreap 9 -> w done ; t cancelled k yes ; k all t yes / w"))
 
-    def test_whom_it_would_end_if_it_tells_so(self):
+    def test_whom_it_would_end_only_where_this_one_is_told_so(self):
+        # Who is told otherwise fits; it is the one who tells of it that does not, whether it could end him or not.
         self.fails("by",
-            ("r", "put r read p 1\nput s cancel r drain\ngive p a -> 0\nreap 9 -> r text p 0 a ; s took yes"),
+            ("s", "put r read p 1\nput s cancel r drain\ngive p a -> 0\nreap 9 -> r text p 0 a ; s took yes"),
             ("c", "put r read p 1\nput c cancel r drain\ngive p a -> 0\nreap 9 -> r text p 0 a ; c took yes"),
-            ("r", "put r read p 1 drain\nput s cancelall\ngive p a -> 0\nreap 9 -> r text p 0 a ; s all r no /"))
+            ("c", "put r read p 1 hard | c cancel r\ngive p a -> 0\nreap 9 -> r text p 0 a ; c took yes"),
+            ("s", "put r read p 1 drain\nput s cancelall\ngive p a -> 0\nreap 9 -> r text p 0 a ; s all r no /"),
+            ("s", "put r read p 1\nput s cancelall drain\ngive p a -> 0\nreap 9 -> r text p 0 a ; s all r no /"),
+            ("s", "put r read p 1 hard | s cancelall\ngive p a -> 0\nreap 9 -> r text p 0 a ; s all r no /"))
+
+    def test_whom_it_would_end_beside_another_result_of_its_own(self):
+        self.fails("by",
+            ("k", "put k nop\nput l cancel k drain\nreap 9 -> k cancelled l no ; l took yes"),
+            ("k", "put k nop | m nop\nput l cancelall drain\nreap 9 -> k cancelled l no ; l all m no / ; m done"))
 
     def test_stopped(self):
         self.fits(
