@@ -51,7 +51,8 @@ def free_of(facts, slot):
     """The turns of this slot that must be freed."""
     turns = facts.turns[slot]
     rows = [tag for tag in facts.last if where_of(facts.asked[tag].deed) == ("slot", slot)]
-    held = [facts.last[tag][1] for tag in rows]
+    # The last table alone may not tell the turn that a completion or an earlier table does.
+    held = [facts.looked[tag] for tag in rows if tag in facts.looked]
     return [number for number in range(len(turns) - 1) if turns[number] is not None and number not in held]
 
 

@@ -603,6 +603,19 @@ class PipeRowsTest(SumsTest):
             (0, "reap 9 -> #1 freed 0 ; #0 freed 0"),
             (1, "put u update 1 p\nreap 9 -> u turn 1 ; #1 freed 0"))
 
+    def test_freed_where_a_completion_or_an_earlier_table_tells_the_turn(self):
+        lines = "put m reads #0 2 | u update 0 q\ngive p a -> 0"
+        told = "reap 9 -> m text p 0 a @0 + ; u turn 1"
+        self.fits(f"{lines}\nquiet -> m yes 0\n{told}")
+        # m stays, so its turn must not be freed, though the last table does not tell that it looked at one.
+        self.fails("quiet", (2, f"{lines}\nquiet -> m no -\n{told}"))
+        self.assertEqual(self.told(PQ, f"{lines}\nquiet -> m no -\n{told} ; #0 freed 0"), ("freed", 0))
+        self.assertEqual(self.told(PQ, f"{lines}\nquiet -> m yes 0\n{told} ; #0 freed 0"), ("freed", 0))
+        # One that ended holds no turn, and one that has not begun none either.
+        self.fits(
+            "put r read #0 1 | u update 0 q\ngive p a -> 0\nquiet -> -\nreap 9 -> r text p 0 a @0 ; u turn 1 ; #0 freed 0",
+            "put x read p 1 link | y read #0 1\nput u update 0 q\nquiet -> x yes - ; y no -\nreap 9 -> u turn 1 ; #0 freed 0")
+
     def test_freed_of_one_slot_whatever_is_held_of_another(self):
         lines = "put u update 0 - | r read #1 1\nquiet -> r yes 0\nreap 9 -> u turn 1"
         self.fits(f"{lines} ; #0 freed 0", setup="ring 9 4 pipes p slots p p")
