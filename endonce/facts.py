@@ -1,6 +1,8 @@
 """What a closed history tells, by its requests, its tables and its completions."""
 
 from endonce.asked import asked_in
+from endonce.data import is_closed
+from endonce.errors import NotClosed
 from endonce.requests import where_of
 from endonce.tuples import in_tuples
 
@@ -113,6 +115,13 @@ class Facts:
         """The clock ahead of the pair number at."""
         times = [event[1] for event, _ in self.pairs[:at] if event[0] == "clock"]
         return times[-1] if len(times) > 0 else 0
+
+
+def closed_facts(setup, history):
+    """The facts of a HISTORY, which must be closed."""
+    if not is_closed(history):
+        raise NotClosed()
+    return Facts(setup, history)
 
 
 def tells_begun(result):

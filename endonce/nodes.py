@@ -1,29 +1,42 @@
 """Nodes: the steps of a closed history, those together that are done as one."""
 
 from endonce.asked import AT_ONCE
-from endonce.data import is_closed
-from endonce.errors import NoSums, NotClosed
-from endonce.facts import Facts
+from endonce.errors import NoSums
+from endonce.facts import closed_facts
 from endonce.sums import misfit_of
+
 
 def nodes(setup, history):
     """The nodes of a closed HISTORY whose numbers fit."""
-    if not is_closed(history):
-        raise NotClosed()
-    facts = Facts(setup, history)
+    return nodes_of(fitting_facts(setup, history))
+
+
+def fitting_facts(setup, history):
+    """The facts of a closed HISTORY whose numbers fit."""
+    facts = closed_facts(setup, history)
     misfit = misfit_of(facts)
     if misfit is not None:
         raise NoSums(misfit[0], misfit[1])
-    return nodes_of(facts)
+    return facts
 
 
 def nodes_of(facts):
     """The nodes of these facts, whose numbers fit."""
+    return sorted(list(nodes_by_heads(facts).values()))
+
+
+def nodes_by_heads(facts):
+    """The nodes of these facts, by those of their steps that let all else of them happen."""
     groups = {}
     for step in steps_of_facts(facts):
         head = head_of(facts, step)
         groups[head] = [*groups.get(head, []), step]
-    return sorted([tuple(sorted(steps)) for steps in groups.values()])
+    return {head: tuple(sorted(steps)) for head, steps in groups.items()}
+
+
+def names_of(facts):
+    """By the steps of these facts the names of their nodes: of each node the least of its steps."""
+    return {step: node[0] for node in nodes_of(facts) for step in node}
 
 
 def steps_of_facts(facts):

@@ -1,7 +1,7 @@
 """The row of sums about quiets: whose tables do not fit, or show someone that could go on."""
 
+from endonce.moments import ended_by, many_there
 from endonce.moves import may_begin, may_go_on
-from endonce.pieces import given_pieces, letters_of, taken_pieces
 from endonce.requests import where_of
 
 
@@ -20,12 +20,6 @@ def lists_well(facts, at):
             if facts.asked[tag].at < other < at and tag not in table:
                 return False
     return True
-
-
-def ended_by(facts, at):
-    """By tags those that were put ahead of this quiet, and are not in its table."""
-    rows = [one for one in facts.asked.values() if one.at < at]
-    return {one.tag: True for one in rows if one.tag not in facts.tables[at]}
 
 
 def is_stuck(facts, at):
@@ -50,26 +44,3 @@ def could_go_on(facts, at, ended, one):
         return False
     shut = any([tag in ended for tag in facts.lockers_of(pipe)])
     return may_go_on(one.deed, many_there(facts, at, ended, pipe), shut, facts.room, time)
-
-
-def many_there(facts, at, ended, pipe):
-    """How many letters of the pipe are there at this quiet."""
-    pieces = [piece for piece in given_pieces(facts, pipe) if is_done(piece[-1], at, ended)]
-    given = {place: True for place, _ in letters_of(pieces)}
-    pieces = taken_pieces(facts, pipe)
-    pieces = [piece for piece in pieces if is_done(piece[-1], at, ended) or has_fired(facts, at, piece, given)]
-    taken = {place: True for place, _ in letters_of(pieces)}
-    return len([place for place in given if place not in taken])
-
-
-def is_done(step, at, ended):
-    """Whether this step, which gave or took letters, was done by then: of an event ahead, or of one that ended."""
-    return step[1] < at if step[0] == "user" else step[1] in ended
-
-
-def has_fired(facts, at, piece, given):
-    """Whether this piece is a fire of one in the table who had begun, and its letters had all been given."""
-    place, text, _, step = piece
-    if step[0] != "fire" or not facts.tables[at].get(step[1], (False, None))[0]:
-        return False
-    return all([number in given for number in range(place, place + len(text))])

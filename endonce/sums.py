@@ -3,9 +3,7 @@
 from endonce.begin_rows import bad_begins, bad_slots
 from endonce.by_rows import bad_by
 from endonce.chain_rows import bad_ahead, bad_chains
-from endonce.data import is_closed
-from endonce.errors import NotClosed
-from endonce.facts import Facts
+from endonce.facts import closed_facts
 from endonce.pipe_rows import bad_buffers, bad_freed, bad_letters
 from endonce.queue_rows import bad_ends, bad_kept, bad_reaps, bad_stops, bad_times
 from endonce.quiet_rows import bad_quiets
@@ -13,9 +11,7 @@ from endonce.quiet_rows import bad_quiets
 
 def sums(setup, history):
     """None if the numbers of a closed HISTORY fit, otherwise the word of the first row that does not hold, and what."""
-    if not is_closed(history):
-        raise NotClosed()
-    return misfit_of(Facts(setup, history))
+    return misfit_of(closed_facts(setup, history))
 
 
 def misfit_of(facts):

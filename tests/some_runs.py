@@ -10,6 +10,10 @@ NAMES = "abcdefghijklmnopqrstuvwxyz"
 class Maker:
     """What makes a SETUP, a SCRIPT and a run; each seed gives others."""
 
+    # How often a request binds the next one, and how many cancels there are among the deeds.
+    bound = 0.5
+    cancels = 2
+
     def __init__(self, seed, most=12):
         self.dice = Random(seed)
         self.most = most
@@ -27,7 +31,7 @@ class Maker:
         return self.dice.choice([("pipe", pipe) for pipe in self.setup[2]] + [("slot", slot) for slot in range(len(self.setup[3]))])
 
     def deed(self):
-        words = ["nop", "work", "timeout"] + ["cancel", "cancel", "cancelall"] * bool(self.tags)
+        words = ["nop", "work", "timeout"] + (["cancel"] * self.cancels + ["cancelall"]) * bool(self.tags)
         words += ["update"] * bool(self.setup[3]) + ["read", "reads", "write", "read", "reads", "write", "shut"] * bool(self.setup[2])
         word = self.dice.choice(words)
         parts = {
@@ -50,7 +54,7 @@ class Maker:
             flags = ["drain"] * (not bound and self.dice.random() < 0.15)
             flags += ["silent"] * (deed in (("nop",), ("work", True)) and self.dice.random() < 0.3)
             flags += ["pick"] * (deed[0] in ("read", "reads") and self.dice.random() < 0.5)
-            bound = len(lot) + 1 < many and self.dice.random() < 0.5
+            bound = len(lot) + 1 < many and self.dice.random() < self.bound
             flags += [self.dice.choice(("link", "hard"))] * bound
             lot.append((self.tag(), deed, tuple(sorted(flags))))
             if bound and (len(lot) + 1 == many or self.dice.random() < 0.4):
@@ -93,3 +97,10 @@ class Maker:
             watch and watch(ring, ("user", len(ring.history())))
             ring.reap(9)
         return ring
+
+
+class ChainMaker(Maker):
+    """Makes longer chains, whose members are cancelled more often."""
+
+    bound = 0.85
+    cancels = 9

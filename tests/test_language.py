@@ -32,6 +32,16 @@ FUNCTIONS = {
     },
     "sums": {"sums": ["setup", "history"]},
     "nodes": {"nodes": ["setup", "history"]},
+    "runs": {
+        "run": ["setup", "script", "choices"], "steps_of": ["setup", "script", "choices"], "closed": ["script"],
+        "closed_histories": ["setup", "script"], "runs_many": ["setup", "history"],
+    },
+    "must": {"must": ["setup", "history"]},
+    "because": {"because": ["setup", "history", "tag"]},
+    "judge": {
+        "judge": ["setup", "history"], "order": ["setup", "history"], "before": ["setup", "history", "one", "other"],
+        "choices_of": ["setup", "history"],
+    },
 }
 
 # Of each class that has landed, its file, its own parameters, and its methods with theirs.
