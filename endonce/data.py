@@ -118,6 +118,14 @@ def is_closed(history):
     return at >= 0 and history[at][0][0] == "quiet"
 
 
+def closed_many(history):
+    """How many pairs the longest beginning of a HISTORY has that is closed; 0 if there is none."""
+    many = len(history)
+    while many > 0 and not is_closed(history[:many]):
+        many -= 1
+    return many
+
+
 def is_empty_reap(pair):
     """Whether this is the pair of a reap that tells nothing."""
     event, told = pair

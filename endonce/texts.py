@@ -64,14 +64,24 @@ def script_in(setup, text):
 
 def history_in(setup, text):
     """The HISTORY that has this text."""
-    pairs = [pair_in(number, line) for number, line in enumerate(lines_of(text))]
+    pairs = pairs_in(lines_of(text), 0)
+    expect_history(setup, pairs, 0)
+    return pairs
+
+
+def pairs_in(lines, first):
+    """The pairs that these lines tell, the first of which has the number first; they need not fit together."""
+    return tuple([pair_in(first + at, line) for at, line in enumerate(lines)])
+
+
+def expect_history(setup, pairs, first):
+    """Refuse the first of these pairs that cannot stand there; the first of all is told by the line number first."""
     ahead = Ahead()
-    for number, (event, told) in enumerate(pairs):
+    for at, (event, told) in enumerate(pairs):
         fault = fault_of(setup, ahead, event)
         if fault is None and not is_told(setup, ahead, event, told):
             fault = "told"
         if fault is not None:
-            raise BadEvent(number, fault)
+            raise BadEvent(first + at, fault)
         ahead.note_event(event)
         ahead.note_told(event, told)
-    return tuple(pairs)

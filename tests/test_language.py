@@ -42,6 +42,11 @@ FUNCTIONS = {
         "judge": ["setup", "history"], "order": ["setup", "history"], "before": ["setup", "history", "one", "other"],
         "choices_of": ["setup", "history"],
     },
+    "fates": {
+        "fates": ["setup", "script", "tag"], "together": ["setup", "script", "wanted"], "standing": ["setup", "script"],
+    },
+    "orders": {"told_order": ["lot"], "lot_for": ["tags", "pairs"]},
+    "desk": {"answers": ["text"]},
 }
 
 # Of each class that has landed, its file, its own parameters, and its methods with theirs.
@@ -50,6 +55,11 @@ CLASSES = {
         "put": ["lot"], "reap": ["most"], "clock": ["time"], "give": ["pipe", "text"], "take": ["pipe", "many"], "lend": ["many"],
         "quiet": [], "stop": [], "do": ["event"], "possible": [], "step": ["index"], "history": [], "unended": [], "twin": [],
         "letters": ["pipe"], "turn": ["slot"], "holders": ["slot", "number"], "buffers": [], "outstanding": [],
+    }),
+    "Session": ("session", ["setup"], {
+        "add": ["event", "told"], "add_line": ["line"], "play": ["script", "choices"], "undo": [], "history": [], "closed_part": [],
+        "verdict": [], "first_bad": [], "sure": ["one", "other"], "because": ["tag"], "operations": [], "as_of": ["many"], "log": [],
+        "__eq__": ["other"], "__len__": [], "__repr__": [],
     }),
 }
 

@@ -7,7 +7,7 @@ from endonce.data import is_closed, is_history, script_of
 from endonce.errors import NotClosed, TooMany
 from endonce.limits import MOST_HISTORIES, MOST_SETS
 from endonce.runs import closed, closed_histories, run, runs_many, steps_of
-from endonce.texts import history_in, history_text, script_in, setup_in
+from endonce.texts import history_text, script_in, setup_in
 from searches import closed_in
 from things import as_lists
 

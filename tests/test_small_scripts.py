@@ -3,12 +3,18 @@
 import unittest
 from random import Random
 
-from endonce.data import is_closed, is_history
+from endonce.because import because
+from endonce.data import is_closed, is_history, tags
+from endonce.fates import fates, standing, together
 from endonce.judge import before, judge
 from endonce.limits import MOST_HISTORIES
+from endonce.nodes import nodes
+from endonce.ring import Ring
 from endonce.runs import closed_histories, runs_many
+from changes import crossed
 from searches import AllRuns, TooLong, always_before, named_posts
 from some_runs import ChainMaker, Maker
+from things import posts
 
 MOST_RUNS = 600
 
@@ -26,36 +32,38 @@ def small_scripts(seeds):
                 yield maker.setup, script, runs
 
 
-def with_told(history, at, told):
-    """The same history, but for what the pair number at is told."""
-    return history[:at] + ((history[at][0], told),) + history[at + 1:]
+def ends_in(history):
+    """By tags the FATEs that a closed history tells."""
+    told = {}
+    for event, word in history:
+        if event[0] == "put":
+            # A silent one that ends well is not told.
+            told.update({tag: ("not put",) if word else ("done",) for tag, _, _ in event[1]})
+    table = [rows for event, rows in history if event[0] == "quiet"][-1]
+    told.update({tag: ("stays",) for tag, _, _ in table})
+    told.update({row[0]: row[1] for event, rows in history if event[0] == "reap" for row in rows if not row[3] and row[1][0] != "freed"})
+    return told
 
 
-def crossed(dice, histories, many):
-    """Histories with what one pair was told in another history, or with one thing told in another way."""
-    for _ in range(many):
-        history = dice.choice(histories)
-        at = dice.randrange(len(history))
-        others = [other[at][1] for other in histories if len(other) > at and other[at][0] == history[at][0]]
-        yield with_told(history, at, dice.choice(others))
-        yield with_told(history, at, changed(dice, history[at][1]))
+def told_of(history, tag):
+    """All that is told of this request, but for kept; of one that ended untold nothing."""
+    return [row[:4] for event, rows in history if event[0] == "reap" for row in rows if row[0] == tag]
 
 
-def changed(dice, told):
-    """What is told with one change in it: a part left out, exchanged with the next one, or another truth or number."""
-    if told is True or told is False:
-        return not told
-    if isinstance(told, int):
-        return told + dice.choice((-1, 1))
-    if not isinstance(told, tuple) or not told:
-        return told
-    at = dice.randrange(len(told))
-    way = dice.randrange(5)
-    if way == 0:
-        return told[:at] + told[at + 1:]
-    if way == 1:
-        return told[:at] + told[at:at + 2][::-1] + told[at + 2:]
-    return told[:at] + (changed(dice, told[at]),) + told[at + 1:]
+def told_without(setup, history, done, named, needed, tag):
+    """What a new Ring tells of this request, on which of all that was done only the nodes that were needed are done."""
+    ring = Ring(setup)
+    for step, name in zip(done, named_posts(done)):
+        if named.get(name) in needed:
+            if step[0] == "user":
+                ring.do(history[step[1]][0])
+            else:
+                ring.step(ring.possible().index(step))
+    assert tag not in [row[0] for row in ring.unended()]
+    posts(ring)
+    while ring.reap(9):
+        pass
+    return told_of(ring.history(), tag)
 
 
 class SmallScriptsTest(unittest.TestCase):
@@ -79,6 +87,43 @@ class SmallScriptsTest(unittest.TestCase):
                 steps = named_posts(orders[0])
                 told = {(one, other) for one in steps for other in steps if before(setup, history, one, other)}
                 self.assertEqual(told, pairs, (setup, history))
+
+    def test_the_fates_are_the_ends_that_come_in_runs(self):
+        found = set()
+        for setup, script, runs in small_scripts(range(600, 660)):
+            told = {tag: {} for tag in tags(script)}
+            for history, choices in runs.least.items():
+                for tag, fate in ends_in(history).items():
+                    told[tag][fate] = min(told[tag].get(fate, choices), choices)
+                    found.add(fate[0])
+            for tag, row in told.items():
+                self.assertEqual(fates(setup, script, tag), sorted(row.items()), (setup, script, tag))
+                for fate, choices in row.items():
+                    self.assertEqual(together(setup, script, ((tag, fate),)), choices)
+            always = [tag for tag in sorted(told) if set(told[tag]) <= {("stays",), ("not put",)}]
+            self.assertEqual(standing(setup, script), (always, [tag for tag in sorted(told) if ("stays",) in told[tag]]))
+        self.assertGreater(len(found), 18)
+
+    def test_what_two_have_together(self):
+        for number, (setup, script, runs) in enumerate(small_scripts(range(700, 730))):
+            dice = Random(number)
+            rows = [(ends_in(history), choices) for history, choices in runs.least.items()]
+            for _ in range(5):
+                names = [tag for tag in tags(script) if dice.random() < 0.8]
+                wanted = tuple((tag, dice.choice(rows)[0][tag]) for tag in names)
+                fitting = [choices for told, choices in rows if all(told[tag] == fate for tag, fate in wanted)]
+                self.assertEqual(together(setup, script, wanted), min(fitting, default=None), (setup, script, wanted))
+
+    def test_what_was_needed_for_an_end_is_enough(self):
+        for setup, script, runs in small_scripts(range(800, 860)):
+            for history, orders in list(runs.orders.items())[:4]:
+                named = {step: node[0] for node in nodes(setup, history) for step in node}
+                for tag in [step[1] for step in named if step[0] == "end"]:
+                    needed = {named[step] for step in because(setup, history, tag)}
+                    puts = [history[name[1]] for name in needed if name[0] == "user" and history[name[1]][0][0] == "put"]
+                    if all(told is None for _, told in puts):
+                        for done in orders[:4]:
+                            self.assertEqual(told_without(setup, history, done, named, needed, tag), told_of(history, tag), (setup, history, tag))
 
     def test_the_judge_lets_by_the_closed_histories_and_no_others(self):
         reasons = {}

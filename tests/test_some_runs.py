@@ -80,7 +80,66 @@ class Queries:
             self.test.assertGreaterEqual(ring.letters(pipe)[0], len(taken))
 
 
+class Stuck:
+    """Whether those that have not ended at a quiet moment are just those that nothing lets go on."""
+
+    def __init__(self, test, setup):
+        self.test = test
+        self.setup = setup
+        self.many = 0
+
+    def __call__(self, ring, step):
+        if ring.possible():
+            return
+        events = [event for event, told in ring.history() if told not in ("busy", "stopped")]
+        lots = [event[1] for event in events if event[0] == "put"]
+        self.requests = [request for lot in lots for request in lot]
+        self.chains = [[tag for tag, _ in chain] for lot in lots for chain in chains(lot)]
+        self.time = max([event[1] for event in events if event[0] == "clock"], default=0)
+        self.left = {row[0]: row for row in ring.unended()}
+        for tag, begun, turn in ring.unended():
+            self.many += 1
+            self.test.assertTrue(self.waits_to_go_on(ring, tag, turn) if begun else self.waits_to_begin(tag), (ring.history(), tag))
+
+    def waits_to_begin(self, tag):
+        names = [request[0] for request in self.requests]
+        deeds = {request[0]: request for request in self.requests}
+        if deeds[tag][1][0] == "linktimeout":
+            ahead = [name for name in names[:names.index(tag)] if deeds[name][1][0] != "linktimeout"]
+            return ahead[-1] in self.left and not self.left[ahead[-1]][1]
+        chain = [row for row in self.chains if tag in row][0]
+        waiting = [name for name in names[:names.index(tag)] if name in self.left]
+        drains = [name for name in waiting if "drain" in deeds[name][2] and name not in chain]
+        in_chain = [name for name in chain[:chain.index(tag)] if name in self.left]
+        return bool(in_chain or drains or ("drain" in deeds[tag][2] and waiting))
+
+    def waits_to_go_on(self, ring, tag, turn):
+        deed = [request[1] for request in self.requests if request[0] == tag][0]
+        if deed[0] in ("timeout", "linktimeout"):
+            return self.time < deed[1]
+        if deed[0] not in ("read", "reads", "write"):
+            return False
+        pipe = deed[1][1]
+        if deed[1][0] == "slot":
+            number, pipe = ring.turn(deed[1][1])
+            if turn != number:
+                # Which pipe an earlier turn had, a Ring does not tell.
+                return True
+        many = len(ring.letters(pipe)[1])
+        waits = many == 0 if deed[0] != "write" else many + len(deed[2]) > self.setup[1]
+        return waits and ring.twin().give(pipe, "a")[0] == "given"
+
+
 class SomeRunsTest(unittest.TestCase):
+    def test_at_quiet_moments_nothing_lets_those_go_on_that_have_not_ended(self):
+        many = 0
+        for seed in range(0, MANY, 3):
+            maker, script = made(seed)
+            watch = Stuck(self, maker.setup)
+            maker.run(script, watch)
+            many += watch.many
+        self.assertGreater(many, 500)
+
     def test_the_queries_at_each_moment(self):
         for seed in range(0, MANY, 5):
             maker, script = made(seed)
