@@ -1,4 +1,4 @@
-"""CHOICES: which user event or STEP a number chooses at a moment, and which number chooses it."""
+"""CHOICES: which user event or STEP a number chooses at a moment, and which number chooses a STEP."""
 
 
 def is_forced(event, steps):
@@ -16,10 +16,8 @@ def chosen(choice, event, steps):
 
 
 def choice_of(index, event, steps):
-    """The least choice that takes the STEP with this index, or the user event if it is None."""
-    if index is None or (index == 0 and is_forced(event, steps)):
-        return 0
-    return index + 1
+    """The least choice that takes the STEP with this index."""
+    return 0 if index == 0 and is_forced(event, steps) else index + 1
 
 
 def trimmed(choices):

@@ -78,13 +78,13 @@ def verdict_text(reason):
 
 
 def steps_text(steps):
-    """Several steps, as an answer."""
-    return "; ".join([" ".join([str(part) for part in step]) for step in steps]) or NOTHING
+    """Several steps, one at least, as an answer."""
+    return "; ".join([" ".join([str(part) for part in step]) for step in steps])
 
 
 def fates_text(rows):
     """What fates tells, without the CHOICES, as an answer."""
-    return "; ".join([" ".join(result_words(fate)) for fate, _ in rows]) or NOTHING
+    return "; ".join([" ".join(result_words(fate)) for fate, _ in rows])
 
 
 def standing_text(names):

@@ -35,7 +35,7 @@ class Spot:
 
 
 class Search:
-    """All that the events of a script can be told, with the reaps behind them, each once."""
+    """All that the events of a script, which ends with a quiet, can be told, with the reaps behind them, each once."""
 
     def __init__(self, setup, script):
         self.script = script
@@ -76,7 +76,8 @@ class Search:
             number, last = self.tellings[number]
             told.append(last)
         pairs = list(zip(self.script, told[::-1]))
-        while len(pairs) == len(self.script) or pairs[-1] != (LAST, ()):
+        # The script ends with a quiet, so one reap at least follows.
+        while pairs[-1] != (LAST, ()):
             pairs.append((LAST, do_event(spot.state, LAST, len(pairs))))
         return tuple(pairs)
 

@@ -173,6 +173,9 @@ class KindsTest(unittest.TestCase):
         self.check("lent", ["user 0, end a", "user 0, end b", "end a, end b", "end b, user 3"], *lines, "lend 1", *told)
         self.check("lent", ["user 0, end a", "user 0, end b", "end a, end b"], *lines, *told)
         self.check("lent", ["end b, user 2"], "give p a -> 0", "put b read p 1 pick", "lend 1", "quiet -> -", "reap 9 -> b no-buffer p 0 0")
+        # Of two buffers the later one counts, of the lends as of the picks.
+        self.check("lent", ["user 0, end a", "user 1, end b", "user 1, end d", "end a, end b", "end b, end d"], "lend 1", "lend 1", "give p abc -> 0",
+                   "put a read p 1 pick | b read p 1 pick | d read p 1 pick", "quiet -> -", "reap 9 -> a picked p 0 a 0 ; b picked p 1 b 1 ; d no-buffer p 2 2")
         self.check("lent", [], "lend 1", "give p a -> 0", "put b read p 1", "quiet -> -", "reap 9 -> b text p 0 a")
 
     def test_time(self):

@@ -204,6 +204,17 @@ class ClosedHistoriesTest(unittest.TestCase):
         rows = self.many(12, "put r read #0 1 | u update 0 -\ngive p a")
         self.assertEqual(sorted(set((row[1][0], row[2]) for history, _ in rows for row in history[3][1] if row[0] == "r")), [("bare", 1), ("text", 0)])
 
+    def test_buffers(self):
+        # a finds no buffer, or takes that which is lent behind it.
+        self.many(2, "give p x\nput a read p 1 pick\nlend 1")
+        # One of both takes the buffer, though they are of two pipes; each time in two orders.
+        self.many(4, "lend 1\ngive p x\ngive q y\nput a read p 1 pick | b read q 1 pick")
+
+    def test_a_chain_that_breaks_where_it_begins(self):
+        # c ends m ahead of r, whose turn has no pipe, or r breaks m first; each time in six orders.
+        rows = self.many(12, "put r read #1 1 link | m nop | c cancel m")
+        self.assertEqual(sorted(set(row[1] for history, _ in rows for row in history[2][1] if row[0] == "m")), [("broken", "r"), ("cancelled", "c", False)])
+
     def test_the_choices_have_0_where_0_does_the_same(self):
         self.assertEqual([choices for _, choices in self.told("put a nop | b nop")], [[], [0, 0, 0, 2]])
         self.assertEqual([choices for _, choices in self.told("put a nop\nreap 3")], [[], [0, 1, 1]])

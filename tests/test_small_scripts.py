@@ -1,10 +1,11 @@
-"""On scripts so small that all their runs can be done one by one: what the program tells of them is what these runs do."""
+"""What the program tells of scripts is what their runs do: all runs of small scripts, and some runs of larger ones."""
 
 import unittest
 from random import Random
 
 from endonce.because import because
 from endonce.data import is_closed, is_history, tags
+from endonce.errors import TooMany
 from endonce.fates import fates, standing, together
 from endonce.judge import before, judge
 from endonce.limits import MOST_HISTORIES
@@ -66,6 +67,23 @@ def told_without(setup, history, done, named, needed, tag):
     return told_of(ring.history(), tag)
 
 
+class LargerScriptsTest(unittest.TestCase):
+    def test_each_run_gives_one_of_the_closed_histories(self):
+        many = 0
+        for seed in range(1000, 1120):
+            for maker in (Maker(seed, 7), ChainMaker(seed, 7)):
+                script = maker.script()
+                try:
+                    rows = closed_histories(maker.setup, script[:-1])
+                except TooMany:
+                    continue
+                found = {history for history, _ in rows}
+                many += len(found) > 1
+                for _ in range(min(20, 4 * len(found))):
+                    self.assertIn(maker.run(script).history(), found, (maker.setup, script))
+        self.assertGreater(many, 60)
+
+
 class SmallScriptsTest(unittest.TestCase):
     def test_closed_histories_with_their_least_choices(self):
         many = 0
@@ -81,7 +99,7 @@ class SmallScriptsTest(unittest.TestCase):
                 self.assertEqual(runs_many(setup, history), len(orders), (setup, history))
 
     def test_before_is_what_all_runs_have_in_common(self):
-        for setup, script, runs in small_scripts(range(300, 340)):
+        for setup, script, runs in small_scripts(range(300, 315)):
             for history, orders in list(runs.orders.items())[:3]:
                 pairs = always_before(orders)
                 steps = named_posts(orders[0])
